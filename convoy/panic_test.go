@@ -1,0 +1,97 @@
+package convoy_test
+
+import (
+	"math"
+	"math/rand"
+	"strings"
+	"testing"
+
+	"convoy/api"
+	"convoy/convoy"
+)
+
+var (
+	oddTexts   = []string{"", "a", "A", "a/b", "a.b", ".", "/", "~", "~1", "a/", "\x00", "\xff\xfe", "é", "12345678", "123456789", strings.Repeat("a/", 5) + "a", strings.Repeat("/", 300), strings.Repeat("a", 70000)}
+	oddNumbers = []int{0, 1, 2, 5, 7, 8, 100, 101, 255, 256, 511, 512, 9999, 10000, 65536, -1, math.MaxInt, math.MinInt}
+)
+
+func oddEntry(r *rand.Rand) api.Entry {
+	return api.Entry{Path: oddText(r), Dir: r.Intn(2) == 0, Id: oddNumber(r), Size: oddNumber(r), Mode: oddNumber(r)}
+}
+
+func oddOp(r *rand.Rand) api.Op {
+	return api.Op{Kind: oddNumber(r), Path: oddText(r), To: oddText(r), Id: oddNumber(r), Size: oddNumber(r), Mode: oddNumber(r)}
+}
+
+func oddText(r *rand.Rand) string { return oddTexts[r.Intn(len(oddTexts))] }
+
+func oddNumber(r *rand.Rand) int { return oddNumbers[r.Intn(len(oddNumbers))] }
+
+func oddList[T any](r *rand.Rand, one func(*rand.Rand) T) []T {
+	var l []T
+	for range r.Intn(4) {
+		l = append(l, one(r))
+	}
+	return l
+}
+
+// Calls that panicked would end the test; beside an error there is nothing but a place.
+func TestOddTrees(t *testing.T) {
+	r := rand.New(rand.NewSource(3))
+	for range 5000 {
+		s, u := oddList(r, oddEntry), oddList(r, oddEntry)
+		e, at := convoy.Check(s, false)
+		f, _ := convoy.Check(u, false)
+		if at < 0 || at > len(s) || e == api.OK && at != 0 {
+			t.Errorf("Check(%+v) = %d, %d", s, e, at)
+		}
+		changes, g := convoy.Diff(s, u)
+		if (g == api.OK) != (e == api.OK && f == api.OK) || g != api.OK && (g != api.ErrEntry || len(changes) != 0) {
+			t.Errorf("Diff(%+v, %+v) = %+v, %d", s, u, changes, g)
+		}
+		convoy.Check(u, true)
+	}
+}
+
+func TestOddScripts(t *testing.T) {
+	r := rand.New(rand.NewSource(4))
+	for range 5000 {
+		l := oddList(r, oddOp)
+		s, e := convoy.Encode(l)
+		p, f := convoy.Print(l)
+		if e != f || e != api.OK && (e != api.ErrScript || s != "" || p != "") {
+			t.Errorf("%+v: Encode = %q, %d, Print = %q, %d", l, s, e, p, f)
+		}
+	}
+}
+
+func TestOddBytes(t *testing.T) {
+	r := rand.New(rand.NewSource(5))
+	for range 20000 {
+		b := make([]byte, r.Intn(30))
+		for i := range b {
+			b[i] = "\x00\x01\x02\x03\x04\x05\x06\x07\x08a/~0 \n\xff"[r.Intn(16)]
+		}
+		if l, e, _ := convoy.Decode(string(b)); e != api.OK && len(l) != 0 {
+			t.Errorf("Decode(%q) = %+v, %d", b, l, e)
+		}
+		if l, e, _ := convoy.Parse(string(b)); e != api.OK && len(l) != 0 {
+			t.Errorf("Parse(%q) = %+v, %d", b, l, e)
+		}
+	}
+}
+
+func TestGreatArguments(t *testing.T) {
+	great := strings.Repeat("\xff", 1<<20)
+	wantDecode(t, great, api.ErrForm, 0)
+	wantForm(t, great, 0)
+	wantForm(t, strings.Repeat("\n", 1<<20), 0)
+	wantForm(t, strings.Repeat(" ", 1<<20)+"\n", 0)
+	wantForm(t, "mkdir a "+strings.Repeat("1", 1<<20)+"\n", 0)
+	if e, at := convoy.Check(make([]api.Entry, 1<<20), true); e != api.ErrMany || at != 0 {
+		t.Errorf("Check of many: %d, %d", e, at)
+	}
+	if s, e := convoy.Encode(make([]api.Op, 1<<20)); e != api.ErrScript || s != "" {
+		t.Errorf("Encode of many: %d", e)
+	}
+}

@@ -1,0 +1,80 @@
+// Package paths: which names and paths there may be, their order, and which are one by folding.
+package paths
+
+import (
+	"slices"
+	"strings"
+
+	"convoy/api"
+)
+
+// IsPath tells whether s is 1 to MaxDepth names with / between.
+func IsPath(s string) bool {
+	// One piece over the limit is enough to know, however long s is.
+	names := strings.SplitN(s, "/", api.MaxDepth+1)
+	if len(names) > api.MaxDepth {
+		return false
+	}
+	for _, n := range names {
+		if !isName(n) {
+			return false
+		}
+	}
+	return true
+}
+
+// IsSpare tells whether s is a spare name.
+func IsSpare(s string) bool {
+	if len(s) < 2 || len(s) > api.MaxName || s[0] != '~' {
+		return false
+	}
+	for i := 1; i < len(s); i++ {
+		if !isDigit(s[i]) {
+			return false
+		}
+	}
+	return true
+}
+
+// Parent gives the path that s is directly below, or nothing if s lies at the top.
+func Parent(s string) string {
+	i := strings.LastIndexByte(s, '/')
+	if i < 0 {
+		return ""
+	}
+	return s[:i]
+}
+
+// Compare orders paths name by name: the bytes as they stand will not do, as - and . are less than the /.
+func Compare(a, b string) int {
+	return slices.Compare(strings.Split(a, "/"), strings.Split(b, "/"))
+}
+
+// Folded gives the same for all paths that are one by folding.
+func Folded(s string) string {
+	b := []byte(s)
+	for i, c := range b {
+		if 'A' <= c && c <= 'Z' {
+			b[i] = c - 'A' + 'a'
+		}
+	}
+	return string(b)
+}
+
+func isName(s string) bool {
+	if len(s) < 1 || len(s) > api.MaxName || s == "." || s == ".." {
+		return false
+	}
+	for i := range len(s) {
+		if !isNameByte(s[i]) {
+			return false
+		}
+	}
+	return true
+}
+
+func isNameByte(c byte) bool {
+	return 'a' <= c && c <= 'z' || 'A' <= c && c <= 'Z' || isDigit(c) || c == '.' || c == '_' || c == '-'
+}
+
+func isDigit(c byte) bool { return '0' <= c && c <= '9' }

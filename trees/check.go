@@ -1,0 +1,84 @@
+// Package trees: which lists of entries are trees, and how two trees differ.
+package trees
+
+import (
+	"convoy/api"
+	"convoy/paths"
+)
+
+// Check tells the first entry of l that may not be, and why.
+func Check(l []api.Entry, fold bool) (api.Errno, int) {
+	if len(l) > api.MaxEntries {
+		return api.ErrMany, 0
+	}
+	for i := range l {
+		if e := entryError(l, i, fold); e != api.OK {
+			return e, i
+		}
+	}
+	return api.OK, 0
+}
+
+// entryError may rely on the entries ahead of number i: they have been found right.
+func entryError(l []api.Entry, i int, fold bool) api.Errno {
+	e := l[i]
+	switch {
+	case !paths.IsPath(e.Path):
+		return api.ErrName
+	case !fieldsFit(e):
+		return api.ErrEntry
+	case i > 0 && paths.Compare(l[i-1].Path, e.Path) >= 0:
+		return api.ErrOrder
+	case !hasParent(l, e.Path):
+		return api.ErrParent
+	case fold && hasFolded(l[:i], e.Path):
+		return api.ErrExist
+	case hasOtherSize(l[:i], e):
+		return api.ErrSize
+	}
+	return api.OK
+}
+
+func fieldsFit(e api.Entry) bool {
+	if e.Mode < 0 || e.Mode > api.MaxMode {
+		return false
+	}
+	if e.Dir {
+		return e.Id == 0 && e.Size == 0
+	}
+	return 1 <= e.Id && e.Id <= api.MaxId && 0 <= e.Size && e.Size <= api.MaxSize
+}
+
+// hasParent looks through the whole list: a parent that stands too far back is there all the same, and is itself out of order.
+func hasParent(l []api.Entry, path string) bool {
+	parent := paths.Parent(path)
+	if parent == "" {
+		return true
+	}
+	for _, e := range l {
+		if e.Path == parent {
+			return e.Dir
+		}
+	}
+	return false
+}
+
+func hasFolded(l []api.Entry, path string) bool {
+	folded := paths.Folded(path)
+	for _, e := range l {
+		if paths.Folded(e.Path) == folded {
+			return true
+		}
+	}
+	return false
+}
+
+// hasOtherSize never finds a directory at fault: all of them have the Id 0 and the Size 0.
+func hasOtherSize(l []api.Entry, e api.Entry) bool {
+	for _, other := range l {
+		if other.Id == e.Id && other.Size != e.Size {
+			return true
+		}
+	}
+	return false
+}
