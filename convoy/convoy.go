@@ -5,10 +5,13 @@ import (
 	"convoy/api"
 	"convoy/scripts"
 	"convoy/trees"
+	"convoy/volumes"
 )
 
 // Volume holds a tree and a journal.
-type Volume struct{}
+type Volume struct {
+	held volumes.Volume
+}
 
 // Check looks at a tree (P3).
 func Check(l []api.Entry, fold bool) (api.Errno, int) { return trees.Check(l, fold) }
@@ -18,7 +21,7 @@ func Diff(s []api.Entry, t []api.Entry) ([]api.Change, api.Errno) { return trees
 
 // Try tells what comes of a script, and how much space it needs (P5).
 func Try(s []api.Entry, fold bool, l []api.Op) ([]api.Entry, int, api.Errno, int) {
-	return nil, 0, api.OK, 0
+	return volumes.Try(s, fold, l)
 }
 
 // Plan makes a script that turns a tree into another (P8).
@@ -40,17 +43,21 @@ func Parse(s string) ([]api.Op, api.Errno, int) { return caught(scripts.Parse, s
 
 // Mount makes a volume (P9).
 func Mount(l []api.Entry, fold bool, space int, journal string) (*Volume, api.Errno) {
-	return nil, api.OK
+	held, e := volumes.Mount(l, fold, space, journal)
+	if e != api.OK {
+		return nil, e
+	}
+	return &Volume{held}, api.OK
 }
 
 // Do does an operation (P9).
-func (v *Volume) Do(o api.Op) api.Errno { return api.OK }
+func (v *Volume) Do(o api.Op) api.Errno { return v.held.Do(o) }
 
 // Tree tells the entries (P9).
-func (v *Volume) Tree() []api.Entry { return nil }
+func (v *Volume) Tree() []api.Entry { return v.held.Tree() }
 
 // Journal tells the journal's bytes (P9).
-func (v *Volume) Journal() string { return "" }
+func (v *Volume) Journal() string { return v.held.Journal() }
 
 // Work carries a script out (P10).
 func (v *Volume) Work(s []api.Entry, l []api.Op, budget int) (api.Errno, int) { return api.OK, 0 }

@@ -2,7 +2,9 @@ package convoy_test
 
 import (
 	"slices"
+	"strings"
 	"testing"
+	"unsafe"
 
 	"convoy/api"
 	"convoy/convoy"
@@ -81,5 +83,113 @@ func TestOpsAreTheCallers(t *testing.T) {
 		if !slices.Equal(second, oneOfEach) || !slices.Equal(read(), oneOfEach) {
 			t.Errorf("%s gives the same memory twice", name)
 		}
+	}
+}
+
+// changesOfAll has every kind of operation, each of which goes on changedTree.
+var (
+	changedTree  = []api.Entry{file("a", 1), dir("d"), dir("d/e"), file("d/f", 2)}
+	changesOfAll = []api.Op{
+		{Kind: api.Chmod, Path: "a", Mode: 7},
+		{Kind: api.Copy, Path: "a", To: "~1"},
+		{Kind: api.Rename, Path: "d", To: "c"},
+		{Kind: api.Mkdir, Path: "b"},
+		{Kind: api.Write, Path: "b/x", Id: 3, Size: 1},
+		{Kind: api.Rmdir, Path: "c/e"},
+		{Kind: api.Unlink, Path: "c/f"},
+	}
+)
+
+func TestTryWritesAndKeepsNothing(t *testing.T) {
+	for _, ops := range [][]api.Op{changesOfAll, nil, {{}}, {{Kind: api.Rmdir, Path: "d"}}} {
+		s, l := guard(changedTree, file("spare", 7)), guard(ops, api.Op{Kind: api.Rmdir, Path: "spare"})
+		first, _, _, _ := convoy.Try(s.list, false, l.list)
+		want := slices.Clone(first)
+		second, _, _, _ := convoy.Try(s.list, false, l.list)
+		overwrite(first, file("x", 9))
+		s.check(t, "Try or its caller")
+		l.check(t, "Try")
+		if third, _, _, _ := convoy.Try(s.list, false, l.list); !slices.Equal(second, want) || !slices.Equal(third, want) {
+			t.Errorf("Try = %+v, then %+v, want %+v", second, third, want)
+		}
+	}
+}
+
+func TestVolumesKeepNothing(t *testing.T) {
+	l := guard(changedTree, file("spare", 7))
+	v := mount(t, l.list, false, 100)
+	for _, o := range changesOfAll {
+		if e := v.Do(o); e != api.OK {
+			t.Fatalf("Do(%+v) = %d", o, e)
+		}
+	}
+	v.Tree()
+	l.check(t, "the volume")
+	w := mount(t, l.list, false, 100)
+	overwrite(l.list, file("x", 9))
+	if got := w.Tree(); !slices.Equal(got, changedTree) {
+		t.Errorf("a caller wrote into the volume: %+v", got)
+	}
+}
+
+// What Tree gave stays as it is whatever is done then, and the volume stays whatever is written into it.
+func TestTreeIsTheCallers(t *testing.T) {
+	v := mount(t, changedTree, false, 100)
+	for _, o := range changesOfAll {
+		before := v.Tree()
+		picture := slices.Clone(before)
+		v.Do(o)
+		if !slices.Equal(before, picture) {
+			t.Errorf("Do(%+v) wrote into a tree that was given: %+v, was %+v", o, before, picture)
+		}
+		after := v.Tree()
+		want := slices.Clone(after)
+		overwrite(after, file("x", 9))
+		overwrite(before, file("y", 9))
+		if got := v.Tree(); !slices.Equal(got, want) {
+			t.Errorf("a caller wrote into the volume: %+v, want %+v", got, want)
+		}
+	}
+}
+
+func TestVolumesShareNothing(t *testing.T) {
+	first, second := mount(t, changedTree, false, 100), mount(t, changedTree, false, 100)
+	for _, o := range changesOfAll {
+		first.Do(o)
+	}
+	if got := second.Tree(); !slices.Equal(got, changedTree) {
+		t.Errorf("another volume has changed: %+v", got)
+	}
+	for _, o := range changesOfAll {
+		second.Do(o)
+	}
+	if a, b := first.Tree(), second.Tree(); !slices.Equal(a, b) {
+		t.Errorf("the same was done: %+v, %+v", a, b)
+	}
+}
+
+// Texts lie in memory, too, which a volume may not hold on to.
+func TestVolumesKeepNoText(t *testing.T) {
+	var lent [][]byte
+	lend := func(s string) string {
+		b := []byte(s)
+		lent = append(lent, b)
+		return unsafe.String(&b[0], len(b))
+	}
+	v, _ := convoy.Mount([]api.Entry{file(lend("a"), 1), dir(lend("d")), file(lend("d/f"), 2), file(lend("e"), 2)}, true, 100, lend("journal"))
+	for _, o := range []api.Op{
+		{Kind: api.Mkdir, Path: lend("b")}, {Kind: api.Mkdir, Path: lend("B/c")}, {Kind: api.Write, Path: lend("w"), Id: 3}, {Kind: api.Copy, Path: lend("A"), To: lend("x")},
+		{Kind: api.Rename, Path: lend("A"), To: lend("y")}, {Kind: api.Rename, Path: lend("d"), To: lend("D")}, {Kind: api.Rename, Path: lend("d/F"), To: lend("d/g")}, {Kind: api.Chmod, Path: lend("D"), Mode: 1},
+	} {
+		if e := v.Do(o); e != api.OK {
+			t.Fatalf("Do(%+v) = %d", o, e)
+		}
+	}
+	for _, b := range lent {
+		copy(b, strings.Repeat("?", len(b)))
+	}
+	want := []api.Entry{{Path: "D", Dir: true, Mode: 1}, file("D/g", 2), dir("b"), dir("b/c"), file("e", 2), sized("w", 3, 0), file("x", 1), file("y", 1)}
+	if got := v.Tree(); !slices.Equal(got, want) || v.Journal() != "journal" {
+		t.Errorf("Tree = %+v, Journal = %q", got, v.Journal())
 	}
 }

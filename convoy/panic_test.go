@@ -3,6 +3,7 @@ package convoy_test
 import (
 	"math"
 	"math/rand"
+	"slices"
 	"strings"
 	"testing"
 
@@ -65,6 +66,42 @@ func TestOddScripts(t *testing.T) {
 	}
 }
 
+func TestOddTries(t *testing.T) {
+	r := rand.New(rand.NewSource(6))
+	for range 5000 {
+		s, l, fold := oddList(r, oddEntry), oddList(r, oddOp), r.Intn(2) == 0
+		e, _ := convoy.Check(s, fold)
+		_, f := convoy.Encode(l)
+		got, need, g, at := convoy.Try(s, fold, l)
+		if g != api.OK && (len(got) != 0 || need != 0) || at < 0 || at > len(l) || g == api.OK && at != 0 {
+			t.Errorf("Try(%+v, %+v) = %+v, %d, %d, %d", s, l, got, need, g, at)
+		}
+		if (g == api.ErrEntry) != (e != api.OK) || (g == api.ErrScript) != (e == api.OK && f != api.OK) {
+			t.Errorf("Try(%+v, %+v): %d, Check %d, Encode %d", s, l, g, e, f)
+		}
+	}
+}
+
+func TestOddVolumes(t *testing.T) {
+	r := rand.New(rand.NewSource(7))
+	for range 5000 {
+		l := oddList(r, oddEntry)
+		v, e := convoy.Mount(l, r.Intn(2) == 0, oddNumber(r), oddText(r))
+		if (v == nil) != (e != api.OK) {
+			t.Fatalf("Mount(%+v) = %v, %d", l, v, e)
+		}
+		if v == nil {
+			l = nil
+			v = mount(t, l, false, 0)
+		}
+		o := oddOp(r)
+		_, f := convoy.Encode([]api.Op{o})
+		if g := v.Do(o); (g == api.ErrScript) != (f != api.OK) || g != api.OK && !slices.Equal(v.Tree(), l) {
+			t.Errorf("Do(%+v) = %d, %+v, Encode %d", o, g, v.Tree(), f)
+		}
+	}
+}
+
 func TestOddBytes(t *testing.T) {
 	r := rand.New(rand.NewSource(5))
 	for range 20000 {
@@ -93,5 +130,11 @@ func TestGreatArguments(t *testing.T) {
 	}
 	if s, e := convoy.Encode(make([]api.Op, 1<<20)); e != api.ErrScript || s != "" {
 		t.Errorf("Encode of many: %d", e)
+	}
+	if l, need, e, at := convoy.Try(nil, true, make([]api.Op, 1<<20)); l != nil || need != 0 || e != api.ErrScript || at != 0 {
+		t.Errorf("Try of many: %d, %d", e, at)
+	}
+	if v, e := convoy.Mount(make([]api.Entry, 1<<20), true, 0, great); v != nil || e != api.ErrEntry {
+		t.Errorf("Mount of many: %d", e)
 	}
 }

@@ -50,15 +50,23 @@ func Compare(a, b string) int {
 	return slices.Compare(strings.Split(a, "/"), strings.Split(b, "/"))
 }
 
-// Folded gives the same for all paths that are one by folding.
-func Folded(s string) string {
-	b := []byte(s)
-	for i, c := range b {
-		if 'A' <= c && c <= 'Z' {
-			b[i] = c - 'A' + 'a'
+// Same tells whether a and b are one path, where names fold or where they don't.
+func Same(a, b string, fold bool) bool {
+	if !fold || len(a) != len(b) {
+		return a == b
+	}
+	for i := range len(a) {
+		if folded(a[i]) != folded(b[i]) {
+			return false
 		}
 	}
-	return string(b)
+	return true
+}
+
+// IsBelow tells whether s is below the path above, where names fold or where they don't.
+func IsBelow(s, above string, fold bool) bool {
+	n := len(above)
+	return len(s) > n && s[n] == '/' && Same(s[:n], above, fold)
 }
 
 func isName(s string) bool {
@@ -78,3 +86,10 @@ func isNameByte(c byte) bool {
 }
 
 func isDigit(c byte) bool { return '0' <= c && c <= '9' }
+
+func folded(c byte) byte {
+	if 'A' <= c && c <= 'Z' {
+		return c - 'A' + 'a'
+	}
+	return c
+}

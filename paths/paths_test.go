@@ -66,16 +66,34 @@ func TestOrder(t *testing.T) {
 	}
 }
 
-func TestFolded(t *testing.T) {
+func TestSame(t *testing.T) {
 	for _, c := range []struct {
 		a, b string
 		one  bool
 	}{
-		{"a", "A", true}, {"aZ/Mz", "Az/mZ", true}, {"a", "a", true}, {"a", "b", false}, {"a.b", "A.B", true},
-		{"A", "a/", false}, {"a-", "a.", false}, {"[", "{", false}, {"@", "`", false}, {"_", "\x7f", false}, {"k", "\u212a", false},
+		{"a", "A", true}, {"aZ/Mz", "Az/mZ", true}, {"a", "a", true}, {"a", "b", false}, {"a.b", "A.B", true}, {"az", "AZ", true},
+		{"A", "a/", false}, {"a", "ab", false}, {"", "a", false}, {"a-", "a.", false}, {"[", "{", false}, {"@", "`", false}, {"_", "\x7f", false}, {"k", "\u212a", false},
 	} {
-		if got := Folded(c.a) == Folded(c.b); got != c.one {
-			t.Errorf("%q and %q are one: %v, want %v", c.a, c.b, got, c.one)
+		if got := Same(c.a, c.b, true); got != c.one {
+			t.Errorf("%q and %q are one by folding: %v, want %v", c.a, c.b, got, c.one)
+		}
+		if got := Same(c.a, c.b, false); got != (c.a == c.b) {
+			t.Errorf("%q and %q are one: %v", c.a, c.b, got)
+		}
+	}
+}
+
+func TestIsBelow(t *testing.T) {
+	for _, c := range []struct {
+		s, above    string
+		fold, below bool
+	}{
+		{"a/b", "a", false, true}, {"a/b/c", "a", false, true}, {"a/b/c", "a/b", false, true}, {"a", "a", false, false}, {"a", "a/b", false, false},
+		{"ab", "a", false, false}, {"ab/c", "a", false, false}, {"a.b", "a", true, false}, {"b/a", "a", false, false},
+		{"A/b", "a", false, false}, {"A/b", "a", true, true}, {"a/B/c", "A/b", true, true}, {"A", "a", true, false}, {"AB/c", "a", true, false},
+	} {
+		if got := IsBelow(c.s, c.above, c.fold); got != c.below {
+			t.Errorf("IsBelow(%q, %q, %v) = %v", c.s, c.above, c.fold, got)
 		}
 	}
 }

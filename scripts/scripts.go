@@ -31,19 +31,23 @@ var needs = [...]need{
 	api.Chmod:  {word: "chmod", spare: true, mode: true},
 }
 
-func isScript(l []api.Op) bool {
-	if len(l) > api.MaxOps {
-		return false
-	}
-	for _, o := range l {
-		if !isOp(o) {
-			return false
+// FirstWrong gives the number of the first operation by which l is no script (MaxOps, if it is one too many), and whether there is one.
+func FirstWrong(l []api.Op) (int, bool) {
+	for i, o := range l {
+		if i == api.MaxOps || !IsOp(o) {
+			return i, true
 		}
 	}
-	return true
+	return 0, false
 }
 
-func isOp(o api.Op) bool {
+func isScript(l []api.Op) bool {
+	_, wrong := FirstWrong(l)
+	return !wrong
+}
+
+// IsOp tells whether o may stand in a script.
+func IsOp(o api.Op) bool {
 	if !within(o.Kind, api.Mkdir, api.Chmod) {
 		return false
 	}

@@ -6,12 +6,34 @@ import (
 	"convoy/paths"
 )
 
+// MaxHeld is how many entries a volume may hold.
+const MaxHeld = 2 * api.MaxEntries
+
 // Check tells the first entry of l that may not be, and why.
 func Check(l []api.Entry, fold bool) (api.Errno, int) {
-	if len(l) > api.MaxEntries {
+	return check(l, fold, api.MaxEntries, isNamed)
+}
+
+// CheckHeld is Check of what a volume holds.
+func CheckHeld(l []api.Entry, fold bool) (api.Errno, int) {
+	return check(l, fold, MaxHeld, MayHold)
+}
+
+// MayHold tells whether an entry of this name may stand on a volume, where files have spare names, too.
+func MayHold(e api.Entry) bool {
+	return isNamed(e) || !e.Dir && paths.IsSpare(e.Path)
+}
+
+func isNamed(e api.Entry) bool { return paths.IsPath(e.Path) }
+
+func check(l []api.Entry, fold bool, most int, named func(api.Entry) bool) (api.Errno, int) {
+	if len(l) > most {
 		return api.ErrMany, 0
 	}
 	for i := range l {
+		if !named(l[i]) {
+			return api.ErrName, i
+		}
 		if e := entryError(l, i, fold); e != api.OK {
 			return e, i
 		}
@@ -19,12 +41,10 @@ func Check(l []api.Entry, fold bool) (api.Errno, int) {
 	return api.OK, 0
 }
 
-// entryError may rely on the entries ahead of number i: they have been found right.
+// entryError may rely on the entries ahead of number i, which have been found right, and on its name.
 func entryError(l []api.Entry, i int, fold bool) api.Errno {
 	e := l[i]
 	switch {
-	case !paths.IsPath(e.Path):
-		return api.ErrName
 	case !fieldsFit(e):
 		return api.ErrEntry
 	case i > 0 && paths.Compare(l[i-1].Path, e.Path) >= 0:
@@ -33,7 +53,7 @@ func entryError(l []api.Entry, i int, fold bool) api.Errno {
 		return api.ErrParent
 	case fold && hasFolded(l[:i], e.Path):
 		return api.ErrExist
-	case hasOtherSize(l[:i], e):
+	case HasOtherSize(l[:i], e):
 		return api.ErrSize
 	}
 	return api.OK
@@ -64,17 +84,16 @@ func hasParent(l []api.Entry, path string) bool {
 }
 
 func hasFolded(l []api.Entry, path string) bool {
-	folded := paths.Folded(path)
 	for _, e := range l {
-		if paths.Folded(e.Path) == folded {
+		if paths.Same(e.Path, path, true) {
 			return true
 		}
 	}
 	return false
 }
 
-// hasOtherSize never finds a directory at fault: all of them have the Id 0 and the Size 0.
-func hasOtherSize(l []api.Entry, e api.Entry) bool {
+// HasOtherSize tells whether a file of l has what is in e and another Size. A directory is never at fault: all of them have the Id 0 and the Size 0.
+func HasOtherSize(l []api.Entry, e api.Entry) bool {
 	for _, other := range l {
 		if other.Id == e.Id && other.Size != e.Size {
 			return true
