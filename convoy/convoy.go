@@ -3,6 +3,7 @@ package convoy
 
 import (
 	"convoy/api"
+	"convoy/plans"
 	"convoy/scripts"
 	"convoy/trees"
 	"convoy/volumes"
@@ -26,7 +27,7 @@ func Try(s []api.Entry, fold bool, l []api.Op) ([]api.Entry, int, api.Errno, int
 
 // Plan makes a script that turns a tree into another (P8).
 func Plan(s []api.Entry, t []api.Entry, fold bool, store []int) ([]api.Op, api.Errno, int) {
-	return nil, api.OK, 0
+	return plans.Plan(s, t, fold, store)
 }
 
 // Encode writes a script as bytes (P6).

@@ -115,6 +115,26 @@ func TestTryWritesAndKeepsNothing(t *testing.T) {
 	}
 }
 
+func TestPlanWritesAndKeepsNothing(t *testing.T) {
+	two := []api.Entry{file("a", 1), dir("b"), file("b/x", 2), file("c", 3)}
+	for _, c := range [][2][]api.Entry{
+		{two, {file("a", 2), file("b", 1), dir("c"), file("c/x", 1), file("c/y", 4)}},
+		{two, two}, {nil, two}, {two, nil}, {two, {file("", 1)}}, {two, {sized("a", 1, 2)}}, {two, {file("a", 9)}},
+	} {
+		s, u, store := guard(c[0], file("spare", 7)), guard(c[1], file("room", 8)), guard([]int{4, 3, -1, 2, 1}, 9)
+		first, _, _ := convoy.Plan(s.list, u.list, false, store.list)
+		want := slices.Clone(first)
+		second, _, _ := convoy.Plan(s.list, u.list, false, store.list)
+		overwrite(first, api.Op{Kind: -1})
+		s.check(t, "Plan or its caller")
+		u.check(t, "Plan or its caller")
+		store.check(t, "Plan")
+		if third, _, _ := convoy.Plan(s.list, u.list, false, store.list); !slices.Equal(second, want) || !slices.Equal(third, want) {
+			t.Errorf("Plan = %+v, then %+v, want %+v", second, third, want)
+		}
+	}
+}
+
 func TestVolumesKeepNothing(t *testing.T) {
 	l := guard(changedTree, file("spare", 7))
 	v := mount(t, l.list, false, 100)

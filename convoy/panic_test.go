@@ -82,6 +82,25 @@ func TestOddTries(t *testing.T) {
 	}
 }
 
+func TestOddPlans(t *testing.T) {
+	r := rand.New(rand.NewSource(17))
+	for i := range 5000 {
+		s, u, store, fold := oddList(r, oddEntry), oddList(r, oddEntry), oddList(r, oddNumber), r.Intn(2) == 0
+		if i%2 == 0 {
+			s, u = randomTree(r), randomTree(r)
+		}
+		e, _ := convoy.Check(s, fold)
+		f, _ := convoy.Check(u, fold)
+		got, g, at := convoy.Plan(s, u, fold, store)
+		if g != api.OK && len(got) != 0 || g == api.OK && at != 0 {
+			t.Errorf("Plan(%+v, %+v, %v) = %+v, %d, %d", s, u, store, got, g, at)
+		}
+		if (g == api.ErrEntry) != (e != api.OK || f != api.OK) || g == api.ErrEntry && (at == 0) != (e != api.OK) {
+			t.Errorf("Plan(%+v, %+v): %d, %d, Check %d and %d", s, u, g, at, e, f)
+		}
+	}
+}
+
 func TestOddVolumes(t *testing.T) {
 	r := rand.New(rand.NewSource(7))
 	for range 5000 {
@@ -133,6 +152,12 @@ func TestGreatArguments(t *testing.T) {
 	}
 	if l, need, e, at := convoy.Try(nil, true, make([]api.Op, 1<<20)); l != nil || need != 0 || e != api.ErrScript || at != 0 {
 		t.Errorf("Try of many: %d, %d", e, at)
+	}
+	if l, e, at := convoy.Plan(make([]api.Entry, 1<<20), nil, true, nil); l != nil || e != api.ErrEntry || at != 0 {
+		t.Errorf("Plan of many: %d, %d", e, at)
+	}
+	if l, e, at := convoy.Plan(nil, files(api.MaxEntries), true, make([]int, 1<<20)); l != nil || e != api.ErrStore || at != 1 {
+		t.Errorf("Plan of a great store: %d, %d", e, at)
 	}
 	if v, e := convoy.Mount(make([]api.Entry, 1<<20), true, 0, great); v != nil || e != api.ErrEntry {
 		t.Errorf("Mount of many: %d", e)

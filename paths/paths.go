@@ -45,6 +45,9 @@ func Parent(s string) string {
 	return s[:i]
 }
 
+// Last gives the last name of s.
+func Last(s string) string { return s[strings.LastIndexByte(s, '/')+1:] }
+
 // Compare orders paths name by name: the bytes as they stand will not do, as - and . are less than the /.
 func Compare(a, b string) int {
 	return slices.Compare(strings.Split(a, "/"), strings.Split(b, "/"))

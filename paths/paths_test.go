@@ -51,6 +51,14 @@ func TestParent(t *testing.T) {
 	}
 }
 
+func TestLast(t *testing.T) {
+	for path, want := range map[string]string{"a": "a", "a/b": "b", "a/b/c": "c", "a.b/c-d": "c-d", "~0": "~0"} {
+		if got := Last(path); got != want {
+			t.Errorf("Last(%q) = %q, want %q", path, got, want)
+		}
+	}
+}
+
 func TestOrder(t *testing.T) {
 	ordered := []string{"-", "A", "A/z", "B", "_", "a", "a/-", "a/b", "a/b/c", "a/b-", "a/b.c", "a/bc", "a-", "a-/b", "a.b", "a0", "aA", "ab", "b"}
 	for i, a := range ordered {

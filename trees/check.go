@@ -51,7 +51,7 @@ func entryError(l []api.Entry, i int, fold bool) api.Errno {
 		return api.ErrOrder
 	case !hasParent(l, e.Path):
 		return api.ErrParent
-	case fold && hasFolded(l[:i], e.Path):
+	case fold && Find(l[:i], e.Path, true) >= 0:
 		return api.ErrExist
 	case HasOtherSize(l[:i], e):
 		return api.ErrSize
@@ -75,21 +75,8 @@ func hasParent(l []api.Entry, path string) bool {
 	if parent == "" {
 		return true
 	}
-	for _, e := range l {
-		if e.Path == parent {
-			return e.Dir
-		}
-	}
-	return false
-}
-
-func hasFolded(l []api.Entry, path string) bool {
-	for _, e := range l {
-		if paths.Same(e.Path, path, true) {
-			return true
-		}
-	}
-	return false
+	i := Find(l, parent, false)
+	return i >= 0 && l[i].Dir
 }
 
 // HasOtherSize tells whether a file of l has what is in e and another Size. A directory is never at fault: all of them have the Id 0 and the Size 0.

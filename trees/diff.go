@@ -63,10 +63,9 @@ func source(s []api.Entry, e api.Entry) string {
 	if e.Dir {
 		return ""
 	}
-	for _, other := range s {
-		if other.Id == e.Id {
-			return other.Path
-		}
+	i := FindId(s, e.Id)
+	if i < 0 {
+		return ""
 	}
-	return ""
+	return s[i].Path
 }

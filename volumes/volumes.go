@@ -57,9 +57,7 @@ func sizes(l []api.Entry) int {
 
 // find gives the number of the entry that path is of here, or -1.
 func (v *Volume) find(path string) int {
-	return slices.IndexFunc(v.entries, func(e api.Entry) bool {
-		return paths.Same(e.Path, path, v.fold)
-	})
+	return trees.Find(v.entries, path, v.fold)
 }
 
 // place gives the path under which a thing told as path would stand: its last name as told, its parent as that stands here.
