@@ -17,9 +17,8 @@ func TestCaught(t *testing.T) {
 		{scripts.Fault{Errno: api.ErrForm, Place: 0}, api.ErrForm, 0},
 		{"something else", api.ErrForm, 0},
 	} {
-		read := func(string) []api.Op { panic(c.thrown) }
-		if l, e, at := caught(read, ""); l != nil || e != c.e || at != c.at {
-			t.Errorf("%v: %+v, %d, %d", c.thrown, l, e, at)
+		if e, at := caught(func() { panic(c.thrown) }); e != c.e || at != c.at {
+			t.Errorf("%v: %d, %d", c.thrown, e, at)
 		}
 	}
 }

@@ -34,13 +34,21 @@ func Plan(s []api.Entry, t []api.Entry, fold bool, store []int) ([]api.Op, api.E
 func Encode(l []api.Op) (string, api.Errno) { return scripts.Encode(l) }
 
 // Decode reads a script's bytes (P6).
-func Decode(s string) ([]api.Op, api.Errno, int) { return caught(scripts.Decode, s) }
+func Decode(s string) ([]api.Op, api.Errno, int) {
+	var l []api.Op
+	e, at := caught(func() { l = scripts.Decode(s) })
+	return l, e, at
+}
 
 // Print writes a script as text (P7).
 func Print(l []api.Op) (string, api.Errno) { return scripts.Print(l) }
 
 // Parse reads a script's text (P7).
-func Parse(s string) ([]api.Op, api.Errno, int) { return caught(scripts.Parse, s) }
+func Parse(s string) ([]api.Op, api.Errno, int) {
+	var l []api.Op
+	e, at := caught(func() { l = scripts.Parse(s) })
+	return l, e, at
+}
 
 // Mount makes a volume (P9).
 func Mount(l []api.Entry, fold bool, space int, journal string) (*Volume, api.Errno) {
@@ -61,19 +69,27 @@ func (v *Volume) Tree() []api.Entry { return v.held.Tree() }
 func (v *Volume) Journal() string { return v.held.Journal() }
 
 // Work carries a script out (P10).
-func (v *Volume) Work(s []api.Entry, l []api.Op, budget int) (api.Errno, int) { return api.OK, 0 }
+func (v *Volume) Work(s []api.Entry, l []api.Op, budget int) (api.Errno, int) {
+	var told api.Errno
+	var n int
+	if e, at := caught(func() { told, n = v.held.Work(s, l, budget) }); e != api.OK {
+		return e, at
+	}
+	return told, n
+}
 
 // caught turns the panic that wrong bytes and lines give up with into an answer.
-func caught(read func(string) []api.Op, s string) (l []api.Op, e api.Errno, at int) {
+func caught(read func()) (e api.Errno, at int) {
 	defer func() {
 		switch r := recover().(type) {
 		case nil:
 		case scripts.Fault:
-			l, e, at = nil, r.Errno, r.Place
+			e, at = r.Errno, r.Place
 		default:
-			// No call may panic (P1), and what gave up is no script, whatever it gave up with.
-			l, e, at = nil, api.ErrForm, 0
+			// No call may panic (P1), and what gave up could not be read, whatever it gave up with.
+			e, at = api.ErrForm, 0
 		}
 	}()
-	return read(s), api.OK, 0
+	read()
+	return api.OK, 0
 }

@@ -152,6 +152,33 @@ func TestVolumesKeepNothing(t *testing.T) {
 	}
 }
 
+func TestWorkWritesAndKeepsNothing(t *testing.T) {
+	for _, ops := range [][]api.Op{changesOfAll, nil, {{}}, {{Kind: api.Rmdir, Path: "d"}}, {{Kind: api.Write, Path: "x", Id: 9, Size: 100}}} {
+		j := job{name: "guarded", s: changedTree, space: 50, l: ops}
+		for _, budget := range []int{0, 3, 1000} {
+			s, l := guard(changedTree, file("spare", 7)), guard(ops, api.Op{Kind: api.Rmdir, Path: "spare"})
+			v, w := j.take(t, j.start()), j.take(t, j.start())
+			before := v.Tree()
+			e, n := v.Work(s.list, l.list, budget)
+			now := leave(v)
+			s.check(t, "Work")
+			l.check(t, "Work")
+			if !slices.Equal(before, changedTree) || !leave(w).equal(j.start()) {
+				t.Errorf("Work of %+v wrote into what was given before, or into another volume", ops)
+			}
+			overwrite(s.list, file("x", 9))
+			overwrite(l.list, api.Op{Kind: -1})
+			overwrite(before, file("y", 9))
+			if !leave(v).equal(now) {
+				t.Errorf("a caller wrote into the volume: %+v, was %+v", leave(v), now)
+			}
+			if f, m := w.Work(changedTree, ops, budget); f != e || m != n || !leave(w).equal(now) {
+				t.Errorf("the same once more: %d, %d, %+v, want %d, %d, %+v", f, m, leave(w), e, n, now)
+			}
+		}
+	}
+}
+
 // What Tree gave stays as it is whatever is done then, and the volume stays whatever is written into it.
 func TestTreeIsTheCallers(t *testing.T) {
 	v := mount(t, changedTree, false, 100)
@@ -188,28 +215,77 @@ func TestVolumesShareNothing(t *testing.T) {
 	}
 }
 
+// lender lends texts out of memory that is written over in the end.
+type lender struct{ lent [][]byte }
+
+func (l *lender) text(s string) string {
+	if s == "" {
+		return s
+	}
+	b := []byte(s)
+	l.lent = append(l.lent, b)
+	return unsafe.String(&b[0], len(b))
+}
+
+func (l *lender) tree(of []api.Entry) []api.Entry {
+	own := slices.Clone(of)
+	for i := range own {
+		own[i].Path = l.text(own[i].Path)
+	}
+	return own
+}
+
+func (l *lender) script(of []api.Op) []api.Op {
+	own := slices.Clone(of)
+	for i := range own {
+		own[i].Path, own[i].To = l.text(own[i].Path), l.text(own[i].To)
+	}
+	return own
+}
+
+func (l *lender) takeBack() {
+	for _, b := range l.lent {
+		copy(b, strings.Repeat("?", len(b)))
+	}
+}
+
+var (
+	lentTree   = []api.Entry{file("a", 1), dir("d"), file("d/f", 2), file("e", 2)}
+	lentScript = []api.Op{
+		{Kind: api.Mkdir, Path: "b"}, {Kind: api.Mkdir, Path: "B/c"}, {Kind: api.Write, Path: "w", Id: 3}, {Kind: api.Copy, Path: "A", To: "x"},
+		{Kind: api.Rename, Path: "A", To: "y"}, {Kind: api.Rename, Path: "d", To: "D"}, {Kind: api.Rename, Path: "d/F", To: "d/g"}, {Kind: api.Chmod, Path: "D", Mode: 1},
+	}
+	lentResult = []api.Entry{moded(dir("D"), 1), file("D/g", 2), dir("b"), dir("b/c"), file("e", 2), sized("w", 3, 0), file("x", 1), file("y", 1)}
+)
+
 // Texts lie in memory, too, which a volume may not hold on to.
 func TestVolumesKeepNoText(t *testing.T) {
-	var lent [][]byte
-	lend := func(s string) string {
-		b := []byte(s)
-		lent = append(lent, b)
-		return unsafe.String(&b[0], len(b))
-	}
-	v, _ := convoy.Mount([]api.Entry{file(lend("a"), 1), dir(lend("d")), file(lend("d/f"), 2), file(lend("e"), 2)}, true, 100, lend("journal"))
-	for _, o := range []api.Op{
-		{Kind: api.Mkdir, Path: lend("b")}, {Kind: api.Mkdir, Path: lend("B/c")}, {Kind: api.Write, Path: lend("w"), Id: 3}, {Kind: api.Copy, Path: lend("A"), To: lend("x")},
-		{Kind: api.Rename, Path: lend("A"), To: lend("y")}, {Kind: api.Rename, Path: lend("d"), To: lend("D")}, {Kind: api.Rename, Path: lend("d/F"), To: lend("d/g")}, {Kind: api.Chmod, Path: lend("D"), Mode: 1},
-	} {
+	var lend lender
+	v, _ := convoy.Mount(lend.tree(lentTree), true, 100, lend.text("journal"))
+	for _, o := range lend.script(lentScript) {
 		if e := v.Do(o); e != api.OK {
 			t.Fatalf("Do(%+v) = %d", o, e)
 		}
 	}
-	for _, b := range lent {
-		copy(b, strings.Repeat("?", len(b)))
-	}
-	want := []api.Entry{{Path: "D", Dir: true, Mode: 1}, file("D/g", 2), dir("b"), dir("b/c"), file("e", 2), sized("w", 3, 0), file("x", 1), file("y", 1)}
-	if got := v.Tree(); !slices.Equal(got, want) || v.Journal() != "journal" {
+	lend.takeBack()
+	if got := v.Tree(); !slices.Equal(got, lentResult) || v.Journal() != "journal" {
 		t.Errorf("Tree = %+v, Journal = %q", got, v.Journal())
+	}
+}
+
+func TestWorkKeepsNoText(t *testing.T) {
+	j := job{name: "lent", s: lentTree, fold: true, space: 100, l: lentScript}
+	at := j.start()
+	for spent, want := range j.stops(t) {
+		var lend lender
+		v, _ := convoy.Mount(lend.tree(at.tree), true, 100, lend.text(at.journal))
+		v.Work(lend.tree(lentTree), lend.script(lentScript), min(spent, 1))
+		lend.takeBack()
+		if at = leave(v); !at.equal(want) {
+			t.Fatalf("%d spent: %+v, want %+v", spent, at, want)
+		}
+	}
+	if !slices.Equal(at.tree, lentResult) {
+		t.Errorf("Tree = %+v", at.tree)
 	}
 }

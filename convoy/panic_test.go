@@ -121,6 +121,37 @@ func TestOddVolumes(t *testing.T) {
 	}
 }
 
+func TestOddWork(t *testing.T) {
+	r := rand.New(rand.NewSource(23))
+	for i := range 5000 {
+		j := likelyJob(r)
+		v, e := convoy.Mount(randomTree(r), false, api.MaxSpace, oddText(r))
+		if i%2 == 0 {
+			v, e = convoy.Mount(j.s, j.fold, j.space, strings.Repeat(oddText(r), r.Intn(3)))
+		}
+		if v == nil {
+			t.Fatalf("Mount = %d", e)
+		}
+		if i%5 == 0 {
+			j.s = oddList(r, oddEntry)
+		}
+		if i%7 == 0 {
+			j.l = append(j.l, oddList(r, oddOp)...)
+		}
+		before := leave(v)
+		j.fold = j.fold && i%2 == 0
+		_, _, tried, at := convoy.Try(j.s, j.fold, j.l)
+		got, n := v.Work(j.s, j.l, oddNumber(r))
+		switch {
+		case tried == api.ErrEntry && (got != api.ErrEntry || n != 0),
+			tried != api.ErrEntry && tried != api.OK && (got != api.ErrScript || n != at),
+			tried == api.OK && (got == api.ErrEntry || got == api.ErrScript),
+			got != api.OK && got != api.ErrFull && got != api.ErrStop && !leave(v).equal(before):
+			t.Errorf("Work(%+v, %+v) = %d, %d, Try %d, %d", j.s, j.l, got, n, tried, at)
+		}
+	}
+}
+
 func TestOddBytes(t *testing.T) {
 	r := rand.New(rand.NewSource(5))
 	for range 20000 {
@@ -158,6 +189,12 @@ func TestGreatArguments(t *testing.T) {
 	}
 	if l, e, at := convoy.Plan(nil, files(api.MaxEntries), true, make([]int, 1<<20)); l != nil || e != api.ErrStore || at != 1 {
 		t.Errorf("Plan of a great store: %d, %d", e, at)
+	}
+	if e, n := mount(t, nil, true, 0).Work(nil, make([]api.Op, 1<<20), math.MaxInt); e != api.ErrScript || n != 0 {
+		t.Errorf("Work of many: %d, %d", e, n)
+	}
+	if e, n := mount(t, nil, true, 0).Work(make([]api.Entry, 1<<20), nil, math.MaxInt); e != api.ErrEntry || n != 0 {
+		t.Errorf("Work from many: %d, %d", e, n)
 	}
 	if v, e := convoy.Mount(make([]api.Entry, 1<<20), true, 0, great); v != nil || e != api.ErrEntry {
 		t.Errorf("Mount of many: %d", e)

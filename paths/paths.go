@@ -2,7 +2,7 @@
 package paths
 
 import (
-	"slices"
+	"cmp"
 	"strings"
 
 	"convoy/api"
@@ -10,13 +10,10 @@ import (
 
 // IsPath tells whether s is 1 to MaxDepth names with / between.
 func IsPath(s string) bool {
-	// One piece over the limit is enough to know, however long s is.
-	names := strings.SplitN(s, "/", api.MaxDepth+1)
-	if len(names) > api.MaxDepth {
-		return false
-	}
-	for _, n := range names {
-		if !isName(n) {
+	depth := 0
+	for name := range strings.SplitSeq(s, "/") {
+		depth++
+		if depth > api.MaxDepth || !isName(name) {
 			return false
 		}
 	}
@@ -48,9 +45,20 @@ func Parent(s string) string {
 // Last gives the last name of s.
 func Last(s string) string { return s[strings.LastIndexByte(s, '/')+1:] }
 
-// Compare orders paths name by name: the bytes as they stand will not do, as - and . are less than the /.
+// Compare orders paths name by name: where one of two like names ends, it is ahead, though the bytes - and . are less than the /.
 func Compare(a, b string) int {
-	return slices.Compare(strings.Split(a, "/"), strings.Split(b, "/"))
+	for i := range min(len(a), len(b)) {
+		switch {
+		case a[i] == b[i]:
+		case a[i] == '/':
+			return -1
+		case b[i] == '/':
+			return 1
+		default:
+			return cmp.Compare(a[i], b[i])
+		}
+	}
+	return cmp.Compare(len(a), len(b))
 }
 
 // Same tells whether a and b are one path, where names fold or where they don't.
